@@ -1,0 +1,1 @@
+"""Fontgap: how far the widths of two fonts part, over all texts."""

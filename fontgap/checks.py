@@ -1,0 +1,14 @@
+"""Checks of numbers that several modules share."""
+
+from fontgap.errors import InvalidNumber
+
+
+def is_whole(value):
+    """Tell whether a value is an integer. True and False are none."""
+    return isinstance(value, int) and not isinstance(value, bool)
+
+
+def check_between(value, low, high):
+    """Raise InvalidNumber unless the value is an integer from low to high."""
+    if not is_whole(value) or value < low or value > high:
+        raise InvalidNumber(value)
