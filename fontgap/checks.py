@@ -12,3 +12,8 @@ def check_between(value, low, high):
     """Raise InvalidNumber unless the value is an integer from low to high."""
     if not is_whole(value) or value < low or value > high:
         raise InvalidNumber(value)
+
+
+def is_digits(text):
+    """Tell whether a text consists of at least one character, all of them from 0 to 9."""
+    return text.isascii() and text.isdigit()

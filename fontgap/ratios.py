@@ -2,7 +2,7 @@
 
 from math import gcd
 
-from fontgap.checks import is_whole
+from fontgap.checks import is_digits, is_whole
 from fontgap.errors import InvalidNumber
 
 
@@ -113,11 +113,6 @@ def terms(value):
     if isinstance(value, Ratio):
         return value.top, value.bottom
     return value, 1
-
-
-def is_digits(text):
-    """Tell whether a text consists of at least one character, all of them from 0 to 9."""
-    return text.isascii() and text.isdigit()
 
 
 def written(number):

@@ -2,9 +2,13 @@
 
 import unittest
 
-from fontgap.errors import DeedRefused, InUse, InvalidNumber, Overlap
+from fontgap.errors import DeedRefused, InUse, InvalidLine, InvalidNumber, Overlap
 from fontgap.fonts import Font
+from fontgap.joined import Joined
+from fontgap.notation import read_font, write_font
 from fontgap.ratios import Ratio
+from fontgap.reader import Reader
+from fontgap.shaping import placed, shape, width
 from tests.support import ProgramTest
 
 
@@ -33,6 +37,41 @@ class FontExamplesTest(ProgramTest):
         error = self.assert_refused(DeedRefused(1), self.font.apply, [("blank", 3), ("drop", "f")])
         self.assert_same_error(error.__cause__, InUse("fi"))
         self.assertEqual(self.font.blank, 250)
+
+    def test_shape(self):
+        self.assertEqual(shape(self.font, "ffifi"), ["f", "fi", "fi"])
+
+    def test_width(self):
+        self.assertEqual(width(self.font, "ffi", tracking=10), 760)
+
+    def test_placed(self):
+        self.assertEqual(list(placed(self.font, "ffif")), [(0, "f", 0), (1, "fi", 300), (3, "f", 750)])
+
+    def test_reader(self):
+        reader = Reader(self.font)
+        decided = reader.feed("ff")
+        self.assertEqual([decided, reader.pending], [["f"], "f"])
+
+
+class NotationExamplesTest(ProgramTest):
+    def test_write(self):
+        self.assertEqual(write_font(Font({"a": 5}, blank=3)), "blank 3\nadvance a 5\nend\n")
+
+    def test_read(self):
+        self.assert_refused(InvalidLine(2), read_font, "blank 3\nadvance a 05\nend\n")
+
+
+class TwoFontsExamplesTest(ProgramTest):
+    def setUp(self):
+        self.first = Font({"a": 2, "b": 3})
+        self.second = Font({"a": 2, "b": 3, "ab": 6})
+        self.joined = Joined(self.first, self.second)
+
+    def test_number_of_states(self):
+        self.assertEqual(len(self.joined), 7)
+
+    def test_step(self):
+        self.assertEqual(self.joined.step(1, "b"), (4, 3, 6))
 
 
 if __name__ == "__main__":

@@ -23,13 +23,34 @@ ALLOWED = set("""len range enumerate zip min max sum abs sorted reversed int str
 BARRED = set("""typing typing_extensions enum Enum IntEnum StrEnum Flag IntFlag Generic Protocol ABC ABCMeta
     namedtuple NamedTuple TypedDict TYPE_CHECKING abstractmethod dataclass overload contextmanager
     register mro elements open input law version_info with_traceback add_note""".split())
-INTERFACE = {"errors": ["FontError"], "ratios": ["Ratio"], "fonts": ["Font", "BLANK"]}
+INTERFACE = {"errors": ["FontError"], "ratios": ["Ratio"], "fonts": ["Font", "BLANK"],
+             "notation": ["write_font", "read_font", "width_table"],
+             "shaping": ["shape", "width", "widths", "placed", "Gauge"],
+             "reader": ["Reader"], "joined": ["Joined"]}
+METHODS = {"Ratio": "__init__ __add__ __sub__ __mul__ __neg__ __abs__ __eq__ __str__ __repr__ compare floor ceiling read",
+           "Font": """__init__ even glyphs kerns advance_of __getitem__ __setitem__ kern_of __contains__ __len__ __eq__
+                      letters ligatures blank changes set_advance set_advances set_kern drop set_blank apply undo
+                      copy""",
+           "Gauge": "__init__ __call__ total",
+           "Reader": "__init__ feed finish pending last total",
+           "Joined": "__init__ letters __len__ state step finish run widths shortest edges"}
 
 
 def nodes(*kinds):
     """Return (place, node) for each node of these kinds in the package."""
     return [(f"{path.name}:{node.lineno}", node) for path, tree in TREES.items() for node in ast.walk(tree)
             if isinstance(node, kinds)]
+
+
+def decorated():
+    """Return (name of the method, its decorator or "") for each method of the package."""
+    found = []
+    for place, node in nodes(ast.ClassDef):
+        for method in node.body:
+            if isinstance(method, ast.FunctionDef):
+                words = [ast.unparse(word) for word in method.decorator_list]
+                found.append((method.name, words[0].rpartition(".")[2] if words else ""))
+    return found
 
 
 def bound_names():
@@ -71,6 +92,12 @@ class FilesTest(unittest.TestCase):
             for name in names:
                 self.assertIn(name, there)
 
+    def test_methods_stand_in_their_classes(self):
+        classes = {node.name: node for place, node in nodes(ast.ClassDef)}
+        for name, methods in METHODS.items():
+            there = [node.name for node in classes[name].body if isinstance(node, ast.FunctionDef)]
+            self.assertEqual(sorted(set(methods.split()) - set(there)), [], name)
+
 
 class RulesTest(unittest.TestCase):
     def test_imports(self):
@@ -110,6 +137,39 @@ class RulesTest(unittest.TestCase):
         for place, node in nodes(ast.Constant):
             if isinstance(node.value, str):
                 self.assertNotIn("%", node.value, place)
+
+    def test_static_methods_and_properties_share_no_name_with_other_methods(self):
+        for kinds in ({"staticmethod", "classmethod"}, {"property", "setter"}):
+            special = {name for name, word in decorated() if word in kinds}
+            others = {name for name, word in decorated() if word not in kinds}
+            attributes = {node.attr for place, node in nodes(ast.Attribute) if isinstance(node.ctx, ast.Store)}
+            if "property" in kinds:
+                attributes = set()
+            self.assertEqual(special & (others | attributes), set())
+
+    def test_generators_share_no_name_with_other_functions(self):
+        functions = [node for place, node in nodes(ast.FunctionDef)]
+        generators = [node.name for node in functions
+                      if any(isinstance(part, (ast.Yield, ast.YieldFrom)) for part in ast.walk(node))]
+        for name in generators:
+            self.assertEqual([node.name for node in functions].count(name), 1, name)
+
+    def test_no_two_files_import_from_each_other(self):
+        uses = {path.stem: {node.module.partition(".")[2] for node in ast.walk(tree) if isinstance(node, ast.ImportFrom)
+                            and node.module.startswith("fontgap.")} for path, tree in TREES.items()}
+        done = []
+        while len(done) < len(uses):
+            ready = [name for name in uses if name not in done and uses[name] <= set(done)]
+            self.assertNotEqual(ready, [])
+            done += ready
+
+    def test_names_of_classes_and_imports_have_no_other_meaning(self):
+        for path, tree in TREES.items():
+            taken = {alias.name for node in ast.walk(tree) if isinstance(node, ast.ImportFrom) for alias in node.names}
+            taken |= {node.name for node in tree.body if isinstance(node, ast.ClassDef)}
+            local = {node.id for node in ast.walk(tree) if isinstance(node, ast.Name) and isinstance(node.ctx, ast.Store)}
+            local |= {node.arg for node in ast.walk(tree) if isinstance(node, ast.arg)}
+            self.assertEqual(taken & local, set(), path)
 
     def test_errors_are_caught_by_name(self):
         for place, node in nodes(ast.ExceptHandler):
