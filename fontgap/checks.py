@@ -14,6 +14,12 @@ def check_between(value, low, high):
         raise InvalidNumber(value)
 
 
+def check_measure(measure):
+    """Raise InvalidNumber unless the measure is an integer that is at least 0."""
+    if not is_whole(measure) or measure < 0:
+        raise InvalidNumber(measure)
+
+
 def is_digits(text):
     """Tell whether a text consists of at least one character, all of them from 0 to 9."""
     return text.isascii() and text.isdigit()

@@ -1,6 +1,7 @@
 """Slow models of shaping and reading that follow the words of the document, and random fonts to compare with."""
 
 import itertools
+from fractions import Fraction
 
 from fontgap.fonts import Font
 
@@ -69,3 +70,72 @@ class SlowReader:
 
     def total(self, text):
         return slow_row_width(self.font, self.decided(text))
+
+
+def small_font(chance, letters, ligatures, most):
+    """Return a font with advances up to the most, also 0, with ligatures of two or three letters and some kerns."""
+    advances = {letter: chance.randrange(most + 1) for letter in letters}
+    for _ in range(ligatures if letters else 0):
+        name = "".join(chance.choice(letters) for _ in range(chance.choice([2, 2, 3])))
+        advances[name] = chance.randrange(2 * most + 1)
+    kerns = {}
+    for left, right in itertools.product(advances, repeat=2):
+        if chance.randrange(100) < 30:
+            kerns[(left, right)] = chance.randrange(-min(advances[left], advances[right]), most + 1)
+    return Font(advances, kerns, blank=chance.randrange(most + 1))
+
+
+def slow_gap(first, second, text):
+    return slow_width(second, text) - slow_width(first, text)
+
+
+def steps_of(joined):
+    """Return for each state the list of (letter, next, first width, second width)."""
+    steps = [[] for _ in range(len(joined))]
+    for number, letter, after, first_width, second_width in joined.edges():
+        steps[number].append((letter, after, first_width, second_width))
+    return steps
+
+
+def follow(joined, number, text):
+    """Return the state after a text that is read from a state on, and the growth of both totals."""
+    totals = [0, 0]
+    for letter in text:
+        number, first_width, second_width = joined.step(number, letter)
+        totals[0] += first_width
+        totals[1] += second_width
+    return number, totals[0], totals[1]
+
+
+def slow_potentials(joined, top, bottom):
+    """Return for each state the greatest value of bottom * growths - top * letters, over texts with few letters."""
+    steps = steps_of(joined)
+    layer = {0: 0}
+    best = {0: 0}
+    for _ in range(len(joined) - 1):
+        following = {}
+        for number, value in layer.items():
+            for _, after, first_width, second_width in steps[number]:
+                found = value + bottom * (second_width - first_width) - top
+                following[after] = max(found, following.get(after, found))
+        layer = following
+        for number, value in layer.items():
+            best[number] = max(value, best.get(number, value))
+    return [best[number] for number in range(len(joined))]
+
+
+def slow_rate(joined):
+    """Return the greatest mean of a ring as a Fraction: Karp's way, over texts of each length from each state."""
+    steps = steps_of(joined)
+    size = len(joined)
+    layers = [{0: 0}]
+    for _ in range(size):
+        following = {}
+        for number, value in layers[-1].items():
+            for _, after, first_width, second_width in steps[number]:
+                found = value + second_width - first_width
+                following[after] = max(found, following.get(after, found))
+        layers.append(following)
+    return max(min(Fraction(layers[size][number] - layers[letters][number], size - letters)
+                   for letters in range(size) if number in layers[letters])
+               for number in layers[size])

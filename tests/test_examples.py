@@ -2,7 +2,11 @@
 
 import unittest
 
+from fontgap.bounds import greatest_gap, worst_rate
+from fontgap.breaking import break_lines
+from fontgap.claims import GapBound, SameWidths
 from fontgap.errors import DeedRefused, InUse, InvalidLine, InvalidNumber, Overlap
+from fontgap.fit import least_widening, overflow_by_length
 from fontgap.fonts import Font
 from fontgap.joined import Joined
 from fontgap.notation import read_font, write_font
@@ -72,6 +76,31 @@ class TwoFontsExamplesTest(ProgramTest):
 
     def test_step(self):
         self.assertEqual(self.joined.step(1, "b"), (4, 3, 6))
+
+    def test_worst_rate(self):
+        self.assertEqual(str(worst_rate(self.joined)), "1/2")
+
+    def test_greatest_gap(self):
+        self.assertEqual(greatest_gap(self.joined, 3), (1, "aab"))
+
+    def test_overflow_by_length(self):
+        self.assertEqual(overflow_by_length(self.joined, 5, 2), [-5, -2, 1])
+
+    def test_least_widening(self):
+        self.assertEqual(least_widening(self.joined, 5), 1)
+
+    def test_same_widths(self):
+        self.assertEqual(SameWidths(self.first, self.second).decide(), ("fails", "ab"))
+
+    def test_gap_bound(self):
+        claim = GapBound(self.first, self.second, Ratio(1, 2), 0)
+        self.assertEqual([claim.holds(), claim.describe()],
+                         [True, "every text of ab: gap at most 1/2 per letter plus 0"])
+
+
+class BreakingExamplesTest(ProgramTest):
+    def test_break_lines(self):
+        self.assertEqual(break_lines(Font({"a": 2, "b": 3}, blank=1), "a b ab", 6), ["a b", "ab"])
 
 
 if __name__ == "__main__":

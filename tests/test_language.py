@@ -26,14 +26,19 @@ BARRED = set("""typing typing_extensions enum Enum IntEnum StrEnum Flag IntFlag 
 INTERFACE = {"errors": ["FontError"], "ratios": ["Ratio"], "fonts": ["Font", "BLANK"],
              "notation": ["write_font", "read_font", "width_table"],
              "shaping": ["shape", "width", "widths", "placed", "Gauge"],
-             "reader": ["Reader"], "joined": ["Joined"]}
+             "reader": ["Reader"], "joined": ["Joined"],
+             "bounds": ["Extreme", "extreme", "worst_rate", "spread", "greatest_gap"],
+             "fit": ["overflow", "least_widening", "overflow_by_length"],
+             "breaking": ["break_lines", "line_widths"], "claims": ["Claim", "GapBound", "SameWidths"]}
 METHODS = {"Ratio": "__init__ __add__ __sub__ __mul__ __neg__ __abs__ __eq__ __str__ __repr__ compare floor ceiling read",
            "Font": """__init__ even glyphs kerns advance_of __getitem__ __setitem__ kern_of __contains__ __len__ __eq__
                       letters ligatures blank changes set_advance set_advances set_kern drop set_blank apply undo
                       copy""",
            "Gauge": "__init__ __call__ total",
            "Reader": "__init__ feed finish pending last total",
-           "Joined": "__init__ letters __len__ state step finish run widths shortest edges"}
+           "Joined": "__init__ letters __len__ state step finish run widths shortest edges",
+           "Claim": "__init__ holds describe", "GapBound": "__init__ decide judge describe",
+           "SameWidths": "decide judge describe"}
 
 
 def nodes(*kinds):
@@ -170,6 +175,26 @@ class RulesTest(unittest.TestCase):
             local = {node.id for node in ast.walk(tree) if isinstance(node, ast.Name) and isinstance(node.ctx, ast.Store)}
             local |= {node.arg for node in ast.walk(tree) if isinstance(node, ast.arg)}
             self.assertEqual(taken & local, set(), path)
+
+    def test_no_attribute_has_the_name_of_a_method_of_builtin_values(self):
+        taken = {name for kind in (str, bytes, int, list, dict, set) for name in dir(kind)} - {
+            "count", "index", "title", "find", "get", "join", "lower", "upper", "split", "strip", "copy", "add"}
+        for place, node in nodes(ast.Attribute):
+            if isinstance(node.ctx, ast.Store):
+                self.assertNotIn(node.attr, taken, place)
+
+    def test_no_name_is_a_method_and_an_attribute(self):
+        methods = {name for name, word in decorated() if word == ""}
+        for place, node in nodes(ast.Attribute):
+            if isinstance(node.ctx, ast.Store):
+                self.assertNotIn(node.attr, methods, place)
+
+    def test_functions_that_take_many_values_get_lists(self):
+        for place, node in nodes(ast.GeneratorExp):
+            self.fail(place)
+        for place, node in nodes(ast.Call):
+            if isinstance(node.func, ast.Attribute):
+                self.assertNotEqual(node.func.attr, "sort", place)
 
     def test_errors_are_caught_by_name(self):
         for place, node in nodes(ast.ExceptHandler):

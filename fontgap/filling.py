@@ -1,0 +1,145 @@
+"""Filling a measure: the texts that fit in the first font, and how wide the second font makes them."""
+
+from heapq import heappop, heappush
+
+from fontgap.paths import Paths, path_text
+
+
+class Lines:
+    """The steps of a joined reader with the first widths that texts need at the least.
+
+    `rows` has for each state the list of its steps (next, first width, second width, letter), `ends` the two widths of
+    its finish, and `need` the least first width that is still to come, whatever letters follow.
+    """
+
+    def __init__(self, joined, measure):
+        self.measure = measure
+        self.rows = [[] for _ in range(len(joined))]
+        for number, letter, after, first_width, second_width in joined.edges():
+            self.rows[number].append((after, first_width, second_width, letter))
+        self.ends = [joined.finish(number) for number in range(len(joined))]
+        self._ways_out = self._find_ways_out()
+        self.need = [-value for value in self._ways_out.sums]
+
+    def way_out(self, number):
+        """Return the letters that lead from a state to the end of a text with the least first width."""
+        return path_text(self._ways_out.origins, number)[::-1]
+
+    def free_ring(self):
+        """Return (prefix, ring, suffix) if the ring widens fitting texts in the second font alone, else None.
+
+        The text of the prefix and the suffix fits with the ring repeated any number of times.
+        """
+        ways_in = self._find_ways_in()
+        usable = [self.need[number] - value <= self.measure for number, value in enumerate(ways_in.sums)]
+        begun = [0 if usable[number] else None for number in range(len(usable))]
+        free = [[(after, second_width, letter) for after, first_width, second_width, letter in row
+                 if first_width == 0 and usable[after]] for row in self.rows]
+        rings = Paths(free, begun).rings
+        if len(rings) == 0:
+            return None
+        number, ring = rings[0]
+        return ways_in.text_to(number), ring, self.way_out(number)
+
+    def _find_ways_in(self):
+        """Return the paths from state 0 on which a letter costs its first width."""
+        rows = [[(after, -first_width, letter) for after, first_width, _, letter in row] for row in self.rows]
+        begun = [None for _ in rows]
+        begun[0] = 0
+        return Paths(rows, begun)
+
+    def _find_ways_out(self):
+        """Return the paths from the ends of texts back to the states, which cost the first widths on the way."""
+        rows = [[] for _ in self.rows]
+        for number, row in enumerate(self.rows):
+            for after, first_width, _, letter in row:
+                rows[after].append((number, -first_width, letter))
+        return Paths(rows, [-first_width for first_width, _ in self.ends])
+
+
+class Filling:
+    """The greatest second width of the texts that fit in the first font. There must be no free ring.
+
+    Of the texts that lead to a state, one is of use only if none with at most its first total has at least its second
+    total. So the first totals are taken in ascending order.
+    """
+
+    def __init__(self, lines):
+        self._lines = lines
+        # For each state the greatest second total so far.
+        self._best = [None for _ in lines.rows]
+        # The second totals by state by first total, the first totals as a heap, and the last steps by node.
+        self._waiting = {0: {0: 0}}
+        self._totals = [0]
+        self._origins = {}
+        self.greatest = None
+        self._greatest_at = None
+        while len(self._totals) > 0:
+            total = heappop(self._totals)
+            self._settle(total)
+            self._end(total)
+            del self._waiting[total]
+
+    def fullest_text(self):
+        """Return a text with the greatest second width."""
+        letters = []
+        node = self._greatest_at
+        while node in self._origins:
+            number, total, letter = self._origins[node]
+            letters.append(letter)
+            node = (number, total)
+        return "".join(letters[::-1])
+
+    def _settle(self, total):
+        """Find the second totals of all states at a first total, and go on from them to greater ones."""
+        reached = self._waiting[total]
+        changed = list(reached)
+        while len(changed) > 0:
+            raised = {}
+            for number in changed:
+                if self._improves(number, reached[number]):
+                    self._best[number] = reached[number]
+                    for after in self._go_on(number, total):
+                        raised[after] = True
+            changed = list(raised)
+
+    def _go_on(self, number, total):
+        """Take the steps from a state at a first total. Return the states that come anew at the same total."""
+        lines = self._lines
+        base = self._best[number]
+        same = []
+        for after, first_width, second_width, letter in lines.rows[number]:
+            later = total + first_width
+            second_total = base + second_width
+            if later + lines.need[after] <= lines.measure and self._improves(after, second_total):
+                if self._put(after, later, second_total):
+                    self._origins[(after, later)] = (number, total, letter)
+                    if first_width == 0:
+                        same.append(after)
+        return same
+
+    def _improves(self, number, second_total):
+        """Tell whether a second total is greater than all those of a state at the first totals so far."""
+        best = self._best[number]
+        return best is None or second_total > best
+
+    def _put(self, number, total, second_total):
+        """Note a second total of a state at a first total. Return False if one as great is noted there."""
+        if total not in self._waiting:
+            self._waiting[total] = {}
+            heappush(self._totals, total)
+        reached = self._waiting[total]
+        if number in reached and reached[number] >= second_total:
+            return False
+        reached[number] = second_total
+        return True
+
+    def _end(self, total):
+        """Compare the texts that end at a first total with the widest one so far."""
+        lines = self._lines
+        for number, second_total in self._waiting[total].items():
+            first_width, second_width = lines.ends[number]
+            found = second_total + second_width
+            if total + first_width <= lines.measure and (self.greatest is None or found > self.greatest):
+                self.greatest = found
+                self._greatest_at = (number, total)
