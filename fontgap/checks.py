@@ -8,9 +8,14 @@ def is_whole(value):
     return isinstance(value, int) and not isinstance(value, bool)
 
 
+def is_between(value, low, high):
+    """Tell whether a value is an integer from low to high."""
+    return is_whole(value) and low <= value <= high
+
+
 def check_between(value, low, high):
     """Raise InvalidNumber unless the value is an integer from low to high."""
-    if not is_whole(value) or value < low or value > high:
+    if not is_between(value, low, high):
         raise InvalidNumber(value)
 
 

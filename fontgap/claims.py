@@ -62,8 +62,6 @@ class GapBound(Claim):
         """Tell whether a value is a valid certificate of this claim."""
         if has_form(certificate, "holds", 2):
             return self._bounds_all(certificate[1])
-        if not has_form(certificate, "fails", 5):
-            return False
         found = repeated_totals(self._joined, certificate)
         return found is not None and self._excess(found) > self._most()
 
@@ -80,7 +78,7 @@ class GapBound(Claim):
         """Return how often a ring must be repeated behind a prefix until the claim is broken."""
         never = self._excess(repeated_totals(self._joined, ("fails", prefix, ring, 0, "")))
         once = self._excess(repeated_totals(self._joined, ("fails", prefix, ring, 1, "")))
-        return max(0, (self._most() - never) // (once - never) + 1)
+        return times_beyond(never, once, self._most())
 
     def _bounds_all(self, potentials):
         """Tell whether potentials prove the claim."""
@@ -157,9 +155,11 @@ def is_list_for(joined, value):
 def repeated_totals(joined, certificate):
     """Return (letters, first width, second width) of the text that a failing certificate with a ring tells.
 
-    Return None if the certificate does not tell a text: the ring must lead the state after the prefix back to itself.
-    The ring is read once only, so the number of times may be of any size.
+    Return None if the value is no such certificate: the ring must lead the state after the prefix back to itself. The
+    ring is read once only, so the number of times may be of any size.
     """
+    if not has_form(certificate, "fails", 5):
+        return None
     _, prefix, ring, times, suffix = certificate
     if not all([is_text(joined, part) for part in (prefix, ring, suffix)]) or not is_whole(times) or times < 0:
         return None
@@ -173,3 +173,11 @@ def repeated_totals(joined, certificate):
     first_width = first_total + times * first_lap + first_rest + first_end
     second_width = second_total + times * second_lap + second_rest + second_end
     return letters, first_width, second_width
+
+
+def times_beyond(never, once, limit):
+    """Return how often a ring must be repeated until what it makes greater is beyond a limit.
+
+    Without the ring it is `never`, and with the ring once it is `once`.
+    """
+    return max(0, (limit - never) // (once - never) + 1)

@@ -8,15 +8,13 @@ from fontgap.paths import Paths, path_text
 class Lines:
     """The steps of a joined reader with the first widths that texts need at the least.
 
-    `rows` has for each state the list of its steps (next, first width, second width, letter), `ends` the two widths of
-    its finish, and `need` the least first width that is still to come, whatever letters follow.
+    `rows` has the steps of each state, `ends` the two widths of its finish, and `need` the least first width that is
+    still to come, whatever letters follow.
     """
 
     def __init__(self, joined, measure):
         self.measure = measure
-        self.rows = [[] for _ in range(len(joined))]
-        for number, letter, after, first_width, second_width in joined.edges():
-            self.rows[number].append((after, first_width, second_width, letter))
+        self.rows = width_rows(joined)
         self.ends = [joined.finish(number) for number in range(len(joined))]
         self._ways_out = self._find_ways_out()
         self.need = [-value for value in self._ways_out.sums]
@@ -60,8 +58,8 @@ class Lines:
 class Filling:
     """The greatest second width of the texts that fit in the first font. There must be no free ring.
 
-    Of the texts that lead to a state, one is of use only if none with at most its first total has at least its second
-    total. So the first totals are taken in ascending order.
+    The first totals are taken in ascending order. Of the texts that lead to a state, one counts only if none with at
+    most its first total has at least its second total.
     """
 
     def __init__(self, lines):
@@ -71,24 +69,18 @@ class Filling:
         # The second totals by state by first total, the first totals as a heap, and the last steps by node.
         self._waiting = {0: {0: 0}}
         self._totals = [0]
-        self._origins = {}
+        self._origins = {(0, 0): None}
         self.greatest = None
         self._greatest_at = None
         while len(self._totals) > 0:
             total = heappop(self._totals)
             self._settle(total)
-            self._end(total)
+            self._leave(total)
             del self._waiting[total]
 
     def fullest_text(self):
         """Return a text with the greatest second width."""
-        letters = []
-        node = self._greatest_at
-        while node in self._origins:
-            number, total, letter = self._origins[node]
-            letters.append(letter)
-            node = (number, total)
-        return "".join(letters[::-1])
+        return path_text(self._origins, self._greatest_at)
 
     def _settle(self, total):
         """Find the second totals of all states at a first total, and go on from them to greater ones."""
@@ -97,28 +89,28 @@ class Filling:
         while len(changed) > 0:
             raised = {}
             for number in changed:
-                if self._improves(number, reached[number]):
-                    self._best[number] = reached[number]
-                    for after in self._go_on(number, total):
+                second_total = reached[number]
+                if self._counts(number, second_total):
+                    self._best[number] = second_total
+                    for after in self._go_on(number, total, second_total):
                         raised[after] = True
             changed = list(raised)
 
-    def _go_on(self, number, total):
-        """Take the steps from a state at a first total. Return the states that come anew at the same total."""
+    def _go_on(self, number, total, second_total):
+        """Take the steps from a state with its totals. Return the states that come anew at the same first total."""
         lines = self._lines
-        base = self._best[number]
         same = []
         for after, first_width, second_width, letter in lines.rows[number]:
             later = total + first_width
-            second_total = base + second_width
-            if later + lines.need[after] <= lines.measure and self._improves(after, second_total):
-                if self._put(after, later, second_total):
-                    self._origins[(after, later)] = (number, total, letter)
+            found = second_total + second_width
+            if later + lines.need[after] <= lines.measure and self._counts(after, found):
+                if self._put(after, later, found):
+                    self._origins[(after, later)] = ((number, total), letter)
                     if first_width == 0:
                         same.append(after)
         return same
 
-    def _improves(self, number, second_total):
+    def _counts(self, number, second_total):
         """Tell whether a second total is greater than all those of a state at the first totals so far."""
         best = self._best[number]
         return best is None or second_total > best
@@ -134,7 +126,7 @@ class Filling:
         reached[number] = second_total
         return True
 
-    def _end(self, total):
+    def _leave(self, total):
         """Compare the texts that end at a first total with the widest one so far."""
         lines = self._lines
         for number, second_total in self._waiting[total].items():
@@ -143,3 +135,41 @@ class Filling:
             if total + first_width <= lines.measure and (self.greatest is None or found > self.greatest):
                 self.greatest = found
                 self._greatest_at = (number, total)
+
+
+class AllNodes(Filling):
+    """The greatest second total of each node (state, first total) that lies on the way to a text that fits."""
+
+    def __init__(self, lines):
+        self.bounds = {}
+        super().__init__(lines)
+
+    def _counts(self, number, second_total):
+        return True
+
+    def _leave(self, total):
+        for number, second_total in self._waiting[total].items():
+            self.bounds[(number, total)] = second_total
+
+
+def lost_nodes(lines, nodes):
+    """Return the list of the nodes from which no text fits, but to which letters lead from the given nodes."""
+    found = {}
+    ahead = list(nodes)
+    while len(ahead) > 0:
+        number, total = ahead.pop()
+        for after, first_width, _, _ in lines.rows[number]:
+            node = (after, total + first_width)
+            is_lost = node[1] <= lines.measure < node[1] + lines.need[after]
+            if is_lost and node not in found:
+                found[node] = True
+                ahead.append(node)
+    return list(found)
+
+
+def width_rows(joined):
+    """Return for each state the list of its steps (next, first width, second width, letter)."""
+    rows = [[] for _ in range(len(joined))]
+    for number, letter, after, first_width, second_width in joined.edges():
+        rows[number].append((after, first_width, second_width, letter))
+    return rows

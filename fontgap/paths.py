@@ -39,10 +39,13 @@ class Paths:
         return list(raised)
 
 
-def path_text(origins, number):
-    """Return the letters on the way to a state from where its path begins."""
+def path_text(origins, end):
+    """Return the letters on the way to a state or a node from where its path begins.
+
+    The origins have for each of them the one before it and the letter of the step, or None where a path begins.
+    """
     letters = []
-    place = number
+    place = end
     while origins[place] is not None:
         place, letter = origins[place]
         letters.append(letter)

@@ -139,3 +139,30 @@ def slow_rate(joined):
     return max(min(Fraction(layers[size][number] - layers[letters][number], size - letters)
                    for letters in range(size) if number in layers[letters])
                for number in layers[size])
+
+
+def slow_by_length(joined, measure, most):
+    """Return the greatest second width minus the measure for each length: all totals of all nodes are kept."""
+    steps = steps_of(joined)
+    layer = {(0, 0): 0}
+    found = []
+    for _ in range(most + 1):
+        widths = [value + joined.finish(number)[1] for (number, total), value in layer.items()
+                  if total + joined.finish(number)[0] <= measure]
+        found.append(max(widths) - measure if widths else None)
+        following = {}
+        for (number, total), value in layer.items():
+            for _, after, first_width, second_width in steps[number]:
+                node = (after, total + first_width)
+                if node[1] <= measure:
+                    following[node] = max(value + second_width, following.get(node, 0))
+        layer = following
+    return found
+
+
+def slow_overflow(joined, measure):
+    """Return the greatest value over all lengths, or None if texts with more letters than nodes have greater ones."""
+    nodes = len(joined) * (measure + 1)
+    found = slow_by_length(joined, measure, 2 * nodes)
+    short = max(value for value in found[:nodes + 1] if value is not None)
+    return None if any(value is not None and value > short for value in found[nodes + 1:]) else short

@@ -1,4 +1,4 @@
-"""The examples of the document, as far as their modules are there."""
+"""The examples of the document."""
 
 import unittest
 
@@ -9,10 +9,13 @@ from fontgap.errors import DeedRefused, InUse, InvalidLine, InvalidNumber, Overl
 from fontgap.fit import least_widening, overflow_by_length
 from fontgap.fonts import Font
 from fontgap.joined import Joined
+from fontgap.kerning import idle_kerns, needless
+from fontgap.library import Library
 from fontgap.notation import read_font, write_font
 from fontgap.ratios import Ratio
 from fontgap.reader import Reader
 from fontgap.shaping import placed, shape, width
+from fontgap.survey import Survey
 from tests.support import ProgramTest
 
 
@@ -101,6 +104,28 @@ class TwoFontsExamplesTest(ProgramTest):
 class BreakingExamplesTest(ProgramTest):
     def test_break_lines(self):
         self.assertEqual(break_lines(Font({"a": 2, "b": 3}, blank=1), "a b ab", 6), ["a b", "ab"])
+
+
+class LaterExamplesTest(ProgramTest):
+    def test_idle_kerns(self):
+        self.assertEqual(idle_kerns(Font({"f": 3, "i": 2, "fi": 4}, {("f", "i"): -1})), [("f", "i")])
+
+    def test_needless(self):
+        self.assertIsNone(needless(Font({"a": 2, "b": 3, "ab": 5}), "ab"))
+
+    def test_survey(self):
+        survey = Survey(Font({"a": 1, "b": 1}))
+        survey.record("ab", 5)
+        survey.record("aab", 7)
+        self.assertEqual(str(survey.told("b")), "3")
+
+    def test_library(self):
+        library = Library()
+        library.put("one", Font({"a": 2, "b": 3}))
+        library.put("two", Font({"a": 2, "b": 3, "ab": 6}))
+        verdict = library.watch("w", "widths", "one", "two")
+        changed = library.edit("two", [("advance", "ab", 5)])
+        self.assertEqual([verdict, changed, library.report()], [False, ["w"], [("w", True)]])
 
 
 if __name__ == "__main__":

@@ -7,39 +7,12 @@ from fontgap.errors import InvalidNumber
 from fontgap.fit import least_widening, overflow, overflow_by_length
 from fontgap.fonts import Font
 from fontgap.joined import Joined
-from tests.slow import random_font, slow_width, small_font, steps_of, texts
+from tests.slow import random_font, slow_by_length, slow_overflow, slow_width, small_font, texts
 from tests.support import ProgramTest
 
 
 def pair():
     return Font({"a": 2, "b": 3}), Font({"a": 2, "b": 3, "ab": 6})
-
-
-def slow_by_length(joined, measure, most):
-    """Return the greatest second width minus the measure for each length: all totals of all nodes are kept."""
-    steps = steps_of(joined)
-    layer = {(0, 0): 0}
-    found = []
-    for _ in range(most + 1):
-        widths = [value + joined.finish(number)[1] for (number, total), value in layer.items()
-                  if total + joined.finish(number)[0] <= measure]
-        found.append(max(widths) - measure if widths else None)
-        following = {}
-        for (number, total), value in layer.items():
-            for _, after, first_width, second_width in steps[number]:
-                node = (after, total + first_width)
-                if node[1] <= measure:
-                    following[node] = max(value + second_width, following.get(node, 0))
-        layer = following
-    return found
-
-
-def slow_overflow(joined, measure):
-    """Return the greatest value over all lengths, or None if texts with more letters than nodes have greater ones."""
-    nodes = len(joined) * (measure + 1)
-    found = slow_by_length(joined, measure, 2 * nodes)
-    short = max(value for value in found[:nodes + 1] if value is not None)
-    return None if any(value is not None and value > short for value in found[nodes + 1:]) else short
 
 
 class OverflowTest(ProgramTest):

@@ -29,7 +29,9 @@ INTERFACE = {"errors": ["FontError"], "ratios": ["Ratio"], "fonts": ["Font", "BL
              "reader": ["Reader"], "joined": ["Joined"],
              "bounds": ["Extreme", "extreme", "worst_rate", "spread", "greatest_gap"],
              "fit": ["overflow", "least_widening", "overflow_by_length"],
-             "breaking": ["break_lines", "line_widths"], "claims": ["Claim", "GapBound", "SameWidths"]}
+             "breaking": ["break_lines", "line_widths"], "claims": ["Claim", "GapBound", "SameWidths"],
+             "lineclaims": ["Fits", "SameBreaks"], "kerning": ["meeting", "idle_kerns", "tidy", "needless"],
+             "survey": ["Survey"], "library": ["Library"]}
 METHODS = {"Ratio": "__init__ __add__ __sub__ __mul__ __neg__ __abs__ __eq__ __str__ __repr__ compare floor ceiling read",
            "Font": """__init__ even glyphs kerns advance_of __getitem__ __setitem__ kern_of __contains__ __len__ __eq__
                       letters ligatures blank changes set_advance set_advances set_kern drop set_blank apply undo
@@ -38,7 +40,10 @@ METHODS = {"Ratio": "__init__ __add__ __sub__ __mul__ __neg__ __abs__ __eq__ __s
            "Reader": "__init__ feed finish pending last total",
            "Joined": "__init__ letters __len__ state step finish run widths shortest edges",
            "Claim": "__init__ holds describe", "GapBound": "__init__ decide judge describe",
-           "SameWidths": "decide judge describe"}
+           "SameWidths": "decide judge describe", "Fits": "__init__ decide judge describe",
+           "SameBreaks": "__init__ decide judge describe",
+           "Survey": "__init__ unknowns recorded missing record told explain doubt advance_of kern_of",
+           "Library": """__init__ names decisions put drop font edit undo watch unwatch report certificate"""}
 
 
 def nodes(*kinds):
