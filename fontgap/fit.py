@@ -1,16 +1,15 @@
 """Lines that fit: how far a text that fits a measure in the first font overflows it in the second."""
 
 from fontgap.checks import check_measure
-from fontgap.filling import Filling, Lines
+from fontgap.filling import Filling, Lines, Outlook
 
 
 def overflow(joined, measure):
     """Return the greatest second width minus the measure over the texts that fit in the first font, or None."""
     check_measure(measure)
     lines = Lines(joined, measure)
-    if lines.free_ring() is not None:
-        return None
-    return Filling(lines).greatest - measure
+    outlook = Outlook(joined, lines)
+    return None if outlook.free is not None else Filling(lines, outlook).greatest - measure
 
 
 def least_widening(joined, measure):

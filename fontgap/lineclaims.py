@@ -4,7 +4,7 @@ from fontgap.breaking import break_lines, check_words
 from fontgap.checks import check_measure, is_between, is_whole
 from fontgap.claims import Claim, has_form, repeated_totals, times_beyond
 from fontgap.errors import FontError, InvalidNumber
-from fontgap.filling import AllNodes, Filling, Lines, lost_nodes, width_rows
+from fontgap.filling import Filling, Lines, Outlook, lost_nodes, width_rows
 from fontgap.pages import Pages
 from fontgap.ratios import written
 
@@ -29,14 +29,15 @@ class Fits(Claim):
     def decide(self):
         """Return a certificate with all nodes to which texts lead, or with a text that breaks the claim."""
         lines = Lines(self._joined, self._measure)
-        free = lines.free_ring()
-        if free is not None:
-            prefix, ring, suffix = free
+        outlook = Outlook(self._joined, lines)
+        if outlook.free is not None:
+            prefix, ring, suffix = outlook.free
             return ("fails", prefix, ring, self._times_needed(prefix, ring, suffix), suffix)
-        filling = Filling(lines)
+        filling = Filling(lines, outlook)
         if filling.greatest > self._limit():
             return ("fails", filling.fullest_text(), "", 0, "")
-        bounds = AllNodes(lines).bounds
+        filling.visit_all()
+        bounds = filling.bounds
         rows = [(number, total, bound) for (number, total), bound in bounds.items()]
         return ("holds", rows + [(number, total, None) for number, total in lost_nodes(lines, bounds)])
 

@@ -109,10 +109,8 @@ class Survey:
     def _value(self, row):
         """Return what a row in which all unknowns are 0 tells of the value that is asked for."""
         begun = len(self._unknowns)
-        total = 0
-        for number, (_, width) in enumerate(self._recorded):
-            total += row.get(begun + number, 0) * width
-        return Ratio(-total, row[ASKED])
+        parts = [share * self._recorded[place - begun][1] for place, share in row.items() if place != ASKED]
+        return Ratio(-sum(parts), row[ASKED])
 
     def _shares(self, row):
         """Return a ratio for each recorded measurement, as a row in which all unknowns are 0 tells them."""

@@ -76,6 +76,19 @@ class OverflowTest(ProgramTest):
         joined = Joined(Font({"a": 400000, "b": 700000}), Font({"a": 400001, "b": 700003}))
         self.assertEqual(overflow(joined, 8300000), 5 * 1 + 9 * 3)
         self.assertEqual(overflow(joined, 10 ** 8), 5 * 1 + 140 * 3)
+        # A third of the measure in "ab", which alone is wider in the second font.
+        joined = Joined(Font({"a": 1, "b": 2}), Font({"a": 1, "b": 2, "ab": 4}))
+        self.assertEqual(overflow(joined, 3 * 10 ** 4), 10 ** 4)
+        self.assertEqual(overflow(joined, 3 * 10 ** 4 + 2), 10 ** 4)
+
+    def test_two_fonts_that_are_nearly_alike(self):
+        chance = random.Random(27)
+        first = random_font(chance, "abcdefghijklmnopqrstuvwxyz", 3, 10)
+        self.assertIn(overflow(Joined(first, first), 10007), (-1, 0))
+        second = first.copy()
+        second.set_advance("q", second["q"] + 1)
+        found = overflow(Joined(first, second), 5000)
+        self.assertTrue(5000 // (first["q"] + 50) <= found + 1 and found <= 100)
 
     def test_wrong_measures(self):
         joined = Joined(*pair())

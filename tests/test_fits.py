@@ -136,6 +136,15 @@ class DecideTest(ProgramTest):
             certificate = self.check(first, second, measure, 50, False)
             self.assertIs(Fits(first, second, measure, 10 ** 12).judge(certificate), False)
 
+    def test_rings_that_are_left_by_several_letters(self):
+        for first, second, measure in (
+                ({"a": 5, "b": 5, "bbaa": 7, "bba": 0}, {"a": 0, "b": 1}, 0),
+                ({"a": 5, "b": 5, "aaba": 0}, {"a": 0, "b": 0, "aa": 1, "bab": 2}, 0),
+                ({"a": 5, "b": 5, "c": 5, "cac": 0, "bbaaa": 0}, {"a": 1, "b": 0, "c": 1, "acc": 1}, 0),
+                ({"a": 5, "b": 0, "aabbb": 0, "aabb": 0}, {"a": 0, "b": 0, "ba": 1}, 5)):
+            certificate = self.check(Font(first), Font(second), measure, 9, False)
+            self.assertGreater(len(certificate[4]), 1)
+
     def test_letters_without_width_in_both_fonts(self):
         first, second = Font({"a": 2, "b": 0}), Font({"a": 3, "b": 0})
         self.check(first, second, 5, 1, True)
