@@ -20,7 +20,7 @@ class Survey:
         glyphs = [("advance", glyph) for glyph in font.glyphs()]
         self._unknowns = glyphs + [("kern", left, right) for left, right, _ in font.kerns()]
         self._columns = {name: column for column, name in enumerate(self._unknowns)}
-        self._recorded = []
+        self._measured = []
         self._equations = Equations(len(self._unknowns))
 
     @property
@@ -31,7 +31,7 @@ class Survey:
     @property
     def recorded(self):
         """The list of the recorded pairs (text, width)."""
-        return list(self._recorded)
+        return list(self._measured)
 
     @property
     def missing(self):
@@ -45,11 +45,11 @@ class Survey:
         row = self._asked(counts)
         is_new = self._equations.unsolved_column(row) is not None
         if is_new:
-            row[len(self._unknowns) + len(self._recorded)] = row.pop(ASKED)
+            row[len(self._unknowns) + len(self._measured)] = row.pop(ASKED)
             self._equations.put(row)
         elif self._value(row).compare(width) != 0:
             raise Contradiction(self._shares(row))
-        self._recorded.append((text, width))
+        self._measured.append((text, width))
         return is_new
 
     def told(self, text):
@@ -109,10 +109,10 @@ class Survey:
     def _value(self, row):
         """Return what a row in which all unknowns are 0 tells of the value that is asked for."""
         begun = len(self._unknowns)
-        parts = [share * self._recorded[place - begun][1] for place, share in row.items() if place != ASKED]
+        parts = [share * self._measured[place - begun][1] for place, share in row.items() if place != ASKED]
         return Ratio(-sum(parts), row[ASKED])
 
     def _shares(self, row):
         """Return a ratio for each recorded measurement, as a row in which all unknowns are 0 tells them."""
         begun = len(self._unknowns)
-        return [Ratio(-row.get(begun + number, 0), row[ASKED]) for number in range(len(self._recorded))]
+        return [Ratio(-row.get(begun + number, 0), row[ASKED]) for number in range(len(self._measured))]

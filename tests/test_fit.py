@@ -139,10 +139,11 @@ class OverflowTest(ProgramTest):
             first = random_font(chance, "abc", chance.randrange(4))
             second = random_font(chance, "abc", chance.randrange(4))
             joined = Joined(first, second)
-            expected = slow_by_length(joined, 700, 100)
-            if expected[-1] is None:
+            expected = slow_by_length(joined, 700, 150)
+            # Ligatures of up to six letters may leave gaps between the lengths at which texts fit.
+            if expected[100:] == [None] * 51:
                 self.assertEqual(overflow(joined, 700), max(value for value in expected if value is not None))
-            self.assertEqual(overflow_by_length(joined, 700, 100), expected)
+            self.assertEqual(overflow_by_length(joined, 700, 150), expected)
 
 
 if __name__ == "__main__":
