@@ -199,11 +199,10 @@ class DecideTest(ProgramTest):
         chance = random.Random(36)
         for _ in range(20):
             first, second = (random_font(chance, "ab", chance.randrange(3), 0) for _ in range(2))
-            measure = chance.randrange(300)
-            claim = Fits(first, second, measure, chance.randrange(-20, 100))
-            limit = measure + claim._widening
+            measure, widening = chance.randrange(300), chance.randrange(-20, 100)
+            claim = Fits(first, second, measure, widening)
             rows = [(slow_width(first, text), slow_width(second, text)) for text in texts("ab", 6)]
-            if any(row[0] <= measure and row[1] > limit for row in rows):
+            if any(row[0] <= measure and row[1] > measure + widening for row in rows):
                 self.assertIs(claim.holds(), False)
 
     def test_claims_keep_copies_of_their_fonts(self):
