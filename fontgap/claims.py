@@ -8,14 +8,13 @@ from fontgap.ratios import Ratio, written
 
 
 class Claim:
-    """The base class of all claims. The joined reader of a claim keeps what the claim needs of its fonts."""
+    """The base class of all claims, each of which decides and judges in its own way.
+
+    The joined reader keeps what the claim needs of its fonts.
+    """
 
     def __init__(self, first, second):
         self._joined = Joined(first, second)
-
-    def decide(self):
-        """Return a certificate."""
-        raise NotImplementedError("a claim of its own kind decides")
 
     def holds(self):
         """Tell whether the claim is true."""
